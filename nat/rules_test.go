@@ -1,11 +1,7 @@
 package nat
 
 import (
-	"go/parser"
-	"go/token"
-	"os"
 	"slices"
-	"strings"
 	"testing"
 )
 
@@ -109,33 +105,5 @@ func TestAnswersAreNormal(t *testing.T) {
 				}
 			}
 		}
-	}
-}
-
-// The map and the section Ways: words by math/bits, and nothing of the
-// project but api.
-func TestImports(t *testing.T) {
-	files, err := os.ReadDir(".")
-	if err != nil {
-		t.Fatal(err)
-	}
-	var paths []string
-	for _, file := range files {
-		name := file.Name()
-		if !strings.HasSuffix(name, ".go") || strings.HasSuffix(name, "_test.go") {
-			continue
-		}
-		tree, err := parser.ParseFile(token.NewFileSet(), name, nil, parser.ImportsOnly)
-		if err != nil {
-			t.Fatal(err)
-		}
-		for _, spec := range tree.Imports {
-			paths = append(paths, strings.Trim(spec.Path.Value, `"`))
-		}
-	}
-	slices.Sort(paths)
-	paths = slices.Compact(paths)
-	if !slices.Equal(paths, []string{"math/bits", "quincunx/api"}) {
-		t.Error(paths)
 	}
 }
