@@ -1,8 +1,7 @@
 package div
 
 import (
-	"math/bits"
-
+	"quincunx/lehmer"
 	"quincunx/mul"
 	"quincunx/nat"
 )
@@ -50,11 +49,10 @@ func shorten(a, less nat.Nat) (nat.Nat, nat.Nat) {
 	b := make(nat.Nat, len(a))
 	copy(b, less)
 	for len(trim(b)) > 1 {
-		j := jumpOf(leading(a, b))
-		if j.isNone() {
+		if j := lehmer.Of(a, b); j.IsNone() {
 			step(a, b)
 		} else {
-			j.take(a, b)
+			j.Take(a, b)
 		}
 		if nat.Cmp(a, b) < 0 {
 			a, b = b, a
@@ -70,13 +68,4 @@ func step(a, b nat.Nat) {
 	rest, _ := Mod(a, b)
 	n := copy(a, rest)
 	clear(a[n:])
-}
-
-// leading is the greatest 64 bits of a, the greatest one of which is set, and
-// what b has in their places.
-func leading(a, b nat.Nat) (uint64, uint64) {
-	n := len(a)
-	up := bits.LeadingZeros64(a[n-1])
-	down := wordBits - up
-	return a[n-1]<<up | a[n-2]>>down, b[n-1]<<up | b[n-2]>>down
 }
