@@ -14,8 +14,8 @@ func Adjugate(a zmat.Mat) (zmat.Mat, api.Errno) {
 		return zmat.Mat{}, api.ErrShape
 	}
 	r := besideIdentity(a)
-	r.reduce(a.C)
-	if a.R == 0 || len(r.pivots) < a.R-1 {
+	r.Reduce(a.C)
+	if a.R == 0 || len(r.Pivots) < a.R-1 {
 		return zmat.New(a.R, a.C)
 	}
 	return join(r.adjugate(), a.C), api.OK
@@ -26,8 +26,8 @@ func Adjugate(a zmat.Mat) (zmat.Mat, api.Errno) {
 func besideIdentity(a zmat.Mat) *reduction {
 	one, _ := zmat.Identity(a.R)
 	r, units := reductionOf(a), reductionOf(one)
-	for i, row := range units.rows {
-		r.rows[i] = append(r.rows[i], row...)
+	for i, row := range units.Rows {
+		r.Rows[i] = append(r.Rows[i], row...)
 	}
 	return r
 }
@@ -37,16 +37,16 @@ func besideIdentity(a zmat.Mat) *reduction {
 // stand, up to one sign, the minors without the column, which are one row of the
 // adjugate. The others come of the rows above, from the last one on.
 func (r *reduction) adjugate() [][]zint.Int {
-	last, left, det := len(r.rows)-1, r.leftOver(), r.det()
-	out := make([][]zint.Int, len(r.rows))
-	for k := range r.rows {
-		minor := turned(r.beside(last, k), r.isOdd != ((last-left)%2 != 0))
+	last, left, det := len(r.Rows)-1, r.leftOver(), r.det()
+	out := make([][]zint.Int, len(r.Rows))
+	for k := range r.Rows {
+		minor := turned(r.beside(last, k), r.IsOdd != ((last-left)%2 != 0))
 		out[left] = append(out[left], minor)
 	}
 	for i := last - 1; i >= 0; i-- {
-		pivot := r.pivots[i]
-		for k := range r.rows {
-			number, _ := zint.Exact(r.atPivot(i, k, det, out), r.rows[i][pivot])
+		pivot := r.Pivots[i]
+		for k := range r.Rows {
+			number, _ := zint.Exact(r.atPivot(i, k, det, out), r.Rows[i][pivot])
 			out[pivot] = append(out[pivot], number)
 		}
 	}
@@ -58,23 +58,23 @@ func (r *reduction) adjugate() [][]zint.Int {
 // the determinant times what stands beside the row.
 func (r *reduction) atPivot(i, k int, det zint.Int, known [][]zint.Int) zint.Int {
 	rest := zint.Mul(det, r.beside(i, k))
-	for at := r.pivots[i] + 1; at < len(r.rows); at++ {
-		rest = zint.Sub(rest, zint.Mul(r.rows[i][at], known[at][k]))
+	for at := r.Pivots[i] + 1; at < len(r.Rows); at++ {
+		rest = zint.Sub(rest, zint.Mul(r.Rows[i][at], known[at][k]))
 	}
 	return rest
 }
 
 // leftOver is the first column that isn't a pivot of the rows ahead of the last one.
 func (r *reduction) leftOver() int {
-	for i, k := range r.pivots {
+	for i, k := range r.Pivots {
 		if i != k {
 			return i
 		}
 	}
-	return len(r.rows) - 1
+	return len(r.Rows) - 1
 }
 
 // beside is the number of the row i that has come of the identity's column k.
 func (r *reduction) beside(i, k int) zint.Int {
-	return r.rows[i][len(r.rows)+k]
+	return r.Rows[i][len(r.Rows)+k]
 }

@@ -11,11 +11,11 @@ import (
 	"testing"
 )
 
-// order is the map's, with lehmer, that stands beside the layers: a layer may call
-// api, and those ahead of it.
+// order is the map's, with grid, lehmer and echelon, that stand beside the layers: each
+// may call those ahead of it.
 func order() []string {
 	return []string{
-		"api", "nat", "lehmer", "mul", "div", "dec", "zint", "modn", "rat", "gfp", "fpoly", "zpoly",
+		"api", "grid", "nat", "lehmer", "mul", "div", "dec", "zint", "echelon", "modn", "rat", "gfp", "fpoly", "zpoly",
 		"zmat", "bareiss", "qmat", "hnf", "modhnf", "snf", "kernel", "dioph", "lll", "gram",
 		"fmat", "hess", "xmat", "xform", "frob", "zchar", "lexer", "parser", "value", "run",
 	}

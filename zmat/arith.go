@@ -2,6 +2,7 @@ package zmat
 
 import (
 	"quincunx/api"
+	"quincunx/grid"
 	"quincunx/zint"
 )
 
@@ -87,7 +88,7 @@ func Stack(a, b Mat) (Mat, api.Errno) {
 	switch {
 	case !both.isFormed() || a.C != b.C:
 		return Mat{}, api.ErrShape
-	case !isSide(a.R + b.R):
+	case !grid.IsSide(a.R + b.R):
 		return Mat{}, api.ErrArg
 	}
 	return form(a.R+b.R, a.C, both.stacked), api.OK
@@ -106,7 +107,7 @@ func Beside(a, b Mat) (Mat, api.Errno) {
 	switch {
 	case !both.isFormed() || a.R != b.R:
 		return Mat{}, api.ErrShape
-	case !isSide(a.C + b.C):
+	case !grid.IsSide(a.C + b.C):
 		return Mat{}, api.ErrArg
 	}
 	return form(a.R, a.C+b.C, both.beside), api.OK
