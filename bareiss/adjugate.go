@@ -2,6 +2,8 @@ package bareiss
 
 import (
 	"quincunx/api"
+	"quincunx/echelon"
+	"quincunx/rows"
 	"quincunx/zint"
 	"quincunx/zmat"
 )
@@ -13,23 +15,12 @@ func Adjugate(a zmat.Mat) (zmat.Mat, api.Errno) {
 	if !isSquare(a) {
 		return zmat.Mat{}, api.ErrShape
 	}
-	r := besideIdentity(a)
+	r := &reduction{echelon.Of(rows.BesideIdentity(a))}
 	r.Reduce(a.C)
 	if a.R == 0 || len(r.Pivots) < a.R-1 {
 		return zmat.New(a.R, a.C)
 	}
-	return join(r.adjugate(), a.C), api.OK
-}
-
-// besideIdentity is the beginning of a reduction of a with the identity beside it: these
-// are more columns than a matrix may have.
-func besideIdentity(a zmat.Mat) *reduction {
-	one, _ := zmat.Identity(a.R)
-	r, units := reductionOf(a), reductionOf(one)
-	for i, row := range units.Rows {
-		r.Rows[i] = append(r.Rows[i], row...)
-	}
-	return r
+	return rows.Join(r.adjugate(), 0, a.C), api.OK
 }
 
 // adjugate is the adjugate's rows, where at most one column has no pivot. That column,

@@ -2,6 +2,7 @@ package bareiss
 
 import (
 	"quincunx/echelon"
+	"quincunx/rows"
 	"quincunx/zint"
 	"quincunx/zmat"
 )
@@ -14,12 +15,7 @@ type reduction struct {
 
 // reductionOf is the beginning, in memory of its own.
 func reductionOf(a zmat.Mat) *reduction {
-	own, _ := zmat.Norm(a)
-	rows := make([][]zint.Int, a.R)
-	for i := range rows {
-		rows[i] = own.A[i*a.C : (i+1)*a.C : (i+1)*a.C]
-	}
-	return &reduction{echelon.Of(rows)}
+	return &reduction{echelon.Of(rows.Of(a))}
 }
 
 // det is the determinant, where there are as many columns as rows.

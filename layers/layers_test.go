@@ -11,12 +11,12 @@ import (
 	"testing"
 )
 
-// order is the map's, with grid, lehmer and echelon, that stand beside the layers: each
-// may call those ahead of it.
+// order is the map's, with grid, lehmer, echelon and rows, that stand beside the layers:
+// each may call those ahead of it.
 func order() []string {
 	return []string{
 		"api", "grid", "nat", "lehmer", "mul", "div", "dec", "zint", "echelon", "modn", "rat", "gfp", "fpoly", "zpoly",
-		"zmat", "bareiss", "qmat", "hnf", "modhnf", "snf", "kernel", "dioph", "lll", "gram",
+		"zmat", "rows", "bareiss", "qmat", "hnf", "modhnf", "snf", "kernel", "dioph", "lll", "gram",
 		"fmat", "hess", "xmat", "xform", "frob", "zchar", "lexer", "parser", "value", "run",
 	}
 }
